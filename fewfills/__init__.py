@@ -1,0 +1,1 @@
+"""Fewfills: rows of sums with few unknowns each, and what fills up when they are struck out."""

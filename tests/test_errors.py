@@ -1,0 +1,82 @@
+"""The refusals: which class stands under which, and their fields."""
+
+import unittest
+
+from fewfills import errors
+from fewfills.errors import FillError, NoOrder, NoPivot, NoPlace, NoNumber, NoText, NoWeb
+from fewfills.game import fill, filled, struck_out
+from fewfills.numbers import number_of, over
+from fewfills.webs import neighbours, web_of
+
+PLAIN = ["NoNumber", "NoWeb", "NoPlace", "NoOrder", "NoParting", "TooMany", "NoSheet", "NoRow", "NoWord"]
+ALL = PLAIN + ["NoPivot", "NoText"]
+
+
+class Classes(unittest.TestCase):
+    def test_any_refusal_is_a_value_error(self):
+        self.assertEqual(FillError.__bases__, (ValueError,))
+
+    def test_each_stands_straight_under_fill_error(self):
+        for name in ALL:
+            with self.subTest(name=name):
+                self.assertEqual(getattr(errors, name).__bases__, (FillError,))
+
+    def test_none_is_another_one(self):
+        for name in ALL:
+            for other in ALL:
+                if name != other:
+                    self.assertFalse(issubclass(getattr(errors, name), getattr(errors, other)), (name, other))
+
+    def test_there_are_no_others(self):
+        told = [name for name in vars(errors) if isinstance(getattr(errors, name), type)]
+        self.assertEqual(sorted(told), sorted(ALL + ["FillError"]))
+
+    def test_plain_ones_are_made_with_words_or_without(self):
+        for name in PLAIN:
+            made = getattr(errors, name)
+            self.assertIsInstance(made(), FillError)
+            self.assertEqual(str(made("some words")), "some words")
+
+
+class Fields(unittest.TestCase):
+    def test_no_pivot_has_its_place(self):
+        for place in (0, 7, 11):
+            error = NoPivot(place)
+            self.assertEqual(error.place, place)
+            self.assertIsInstance(error, FillError)
+            self.assertIn(str(place), str(error))
+
+    def test_no_text_has_its_line(self):
+        for line in (0, 5, 20):
+            error = NoText(line)
+            self.assertEqual(error.line, line)
+            self.assertIsInstance(error, FillError)
+            self.assertIn(str(line), str(error))
+
+    def test_each_object_keeps_its_own(self):
+        first, second = NoPivot(1), NoPivot(2)
+        self.assertEqual((first.place, second.place), (1, 2))
+
+
+class Refused(unittest.TestCase):
+    """What the functions raise is a FillError, a ValueError, and of no other class."""
+
+    def check(self, wanted, call, *arguments):
+        with self.assertRaises(wanted) as caught:
+            call(*arguments)
+        error = caught.exception
+        self.assertIsInstance(error, FillError)
+        self.assertIsInstance(error, ValueError)
+        for name in ALL:
+            other = getattr(errors, name)
+            self.assertEqual(isinstance(error, other), other is wanted, name)
+
+    def test_each_refusal_of_numbers_webs_and_the_game(self):
+        web = (3, ((0, 1),))
+        self.check(NoNumber, number_of, 1, 0)
+        self.check(NoNumber, over, (1, 2), (0, 1))
+        self.check(NoWeb, web_of, 13, [])
+        self.check(NoPlace, neighbours, web, 3)
+        self.check(NoPlace, struck_out, web, [0, 1, 2], 3)
+        self.check(NoOrder, fill, web, [0, 1])
+        self.check(NoOrder, filled, web, [0, 1])
