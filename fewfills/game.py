@@ -11,13 +11,22 @@ def pairs_among(places):
     return pairs
 
 
+def pairs_round(web, left, v):
+    """The pairs of neighbours of v that are left, the lesser place first, rising."""
+    return pairs_among([place for place in neighbours(web, v) if place in left])
+
+
+def new_pairs(web, left, v):
+    """The pairs that become tied when v is struck out of the places left, and aren't tied yet."""
+    return [pair for pair in pairs_round(web, left, v) if pair not in web[1]]
+
+
 def struck_out(web, left, v):
     check_place(web[0], v)
     for place in left:
         check_place(web[0], place)
-    near = [place for place in neighbours(web, v) if place in left]
     others = [tie for tie in web[1] if v not in tie]
-    return (web[0], rising_once(others + pairs_among(near)))
+    return (web[0], rising_once(others + pairs_round(web, left, v)))
 
 
 def filled(web, order):

@@ -1,6 +1,9 @@
-"""What several tests share: webs and orders to go through, and things of other kinds."""
+"""What several tests share: webs and orders to go through, things of other kinds, and plain ways to find answers."""
 
 from itertools import combinations, permutations
+from random import Random
+
+RING = (5, ((0, 1), (0, 4), (1, 2), (2, 3), (3, 4)))
 
 
 class Stranger:
@@ -32,8 +35,31 @@ def nested_lists():
     return [ring, [[]], [()], [None], [Stranger()]]
 
 
+def odd_places():
+    """Things that are no place of five."""
+    return odd_things() + nested_lists() + [-1, 5, 12, 10 ** 5000, (), (0,), [], [0]]
+
+
+def odd_orders():
+    """Things that are no order of five places."""
+    made = odd_things() + nested_lists() + [
+        0, 5, (), (0, 1, 2, 3, 4), "01234", [], [0, 1, 2, 3], [0, 1, 2, 3, 4, 5], [0, 1, 2, 3, 4, 4], [0, 1, 2, 3, 3],
+        [0, 1, 2, 3, 5], [-1, 1, 2, 3, 4], [0, True, 2, 3, 4], [False, 1, 2, 3, 4], [0, 1.0, 2, 3, 4],
+        [0, "1", 2, 3, 4], [0, None, 2, 3, 4], [0, (1,), 2, 3, 4], [0, [1], 2, 3, 4], [0, 1, 2, 3, 10 ** 5000],
+    ]
+    return made
+
+
 def all_pairs(n):
     return list(combinations(range(n), 2))
+
+
+def both_ways(ties):
+    return {frozenset(tie) for tie in ties}
+
+
+def ties_of(sets):
+    return tuple(sorted(tuple(sorted(tie)) for tie in sets))
 
 
 def ties_of_mask(n, mask):
@@ -70,3 +96,128 @@ def great_webs_with_orders():
             web = (12, tuple(pairs[shift::stride]))
             for factor in (1, 5, 7, 11):
                 yield web, [(place * factor + shift) % 12 for place in range(12)]
+
+
+def shuffled(source, things):
+    mixed = list(things)
+    source.shuffle(mixed)
+    return mixed
+
+
+def drawn_web(source, n):
+    """A web of n places, as dense as is drawn too."""
+    ties = all_pairs(n)
+    return (n, tuple(sorted(source.sample(ties, source.randint(0, len(ties))))))
+
+
+def drawn_webs_with_orders(each=40):
+    """Webs of 0 to 12 places with an order, always the same ones."""
+    source = Random(8)
+    for n in range(13):
+        for _ in range(each):
+            # Sparse ones are drawn more often: in dense ones hardly anything is left to come.
+            web = min(drawn_web(source, n), drawn_web(source, n), key=lambda made: len(made[1]))
+            yield web, shuffled(source, range(n))
+
+
+def renamed(web, names):
+    """The web with its places called otherwise."""
+    return (web[0], ties_of(both_ways((names[a], names[b]) for a, b in web[1])))
+
+
+def ring_web(n, ring):
+    """The web of n places that has the ring's ties and no others."""
+    return (n, ties_of(both_ways(zip(ring, ring[1:] + ring[:1]))))
+
+
+def with_ties(web, *pairs):
+    return (web[0], ties_of(both_ways(web[1]) | both_ways(pairs)))
+
+
+def two_sides(left, right):
+    """The web in which each of the first places is tied to each of the others."""
+    return (left + right, tuple((a, b) for a in range(left) for b in range(left, left + right)))
+
+
+def reached_from(web, start, passes):
+    """The places to which a way leads from the start, all inner places of which pass."""
+    ties = both_ways(web[1])
+    reached, rim = {start}, [start]
+    while rim:
+        here = rim.pop()
+        for there in range(web[0]):
+            if there not in reached and frozenset((here, there)) in ties:
+                reached.add(there)
+                if passes(there):
+                    rim.append(there)
+    return reached
+
+
+def tied_by_ways(web, order):
+    """The pairs from one to the other of which a way leads through places struck ahead of both."""
+    when = {place: k for k, place in enumerate(order)}
+    found = []
+    for a, b in all_pairs(web[0]):
+        bound = min(when[a], when[b])
+        if b in reached_from(web, a, lambda place: when[place] < bound):
+            found.append((a, b))
+    return tuple(found)
+
+
+def game_of(web, order):
+    """The game gone through: of each place the neighbours that are left when it is struck out, and the fill."""
+    near = {place: set() for place in range(web[0])}
+    for a, b in web[1]:
+        near[a].add(b)
+        near[b].add(a)
+    met, come = {}, []
+    for v in order:
+        met[v] = near.pop(v)
+        for a in met[v]:
+            near[a].discard(v)
+        for a, b in combinations(sorted(met[v]), 2):
+            if b not in near[a]:
+                come.append((a, b))
+                near[a].add(b)
+                near[b].add(a)
+    return met, sorted(come)
+
+
+def is_bare_by_words(web, ring):
+    """Whether a list of places, each once, is a bare ring: just those side by side in it are tied."""
+    ties = both_ways(web[1])
+    if len(ring) < 4 or len(set(ring)) < len(ring):
+        return False
+    for (k, a), (m, b) in combinations(enumerate(ring), 2):
+        beside = m - k in (1, len(ring) - 1)
+        if beside != (frozenset((a, b)) in ties):
+            return False
+    return True
+
+
+def bare_rings_of(web, most=7):
+    """All bare rings of the web of at most so many places, each once: the least first, then its lesser neighbour."""
+    for m in range(4, min(web[0], most) + 1):
+        for ring in permutations(range(web[0]), m):
+            if ring[0] == min(ring) and ring[1] < ring[-1] and is_bare_by_words(web, ring):
+                yield list(ring)
+
+
+def denies_by_words(web, k, paper):
+    """Whether the thing denies k, told from the words of the document alone."""
+    if k < 0 or type(paper) is not tuple or len(paper) < 2 or type(paper[0]) is not str:
+        return False
+    ring = paper[1]
+    if type(ring) is not list or not all(type(place) is int and 0 <= place < web[0] for place in ring):
+        return False
+    if not is_bare_by_words(web, ring):
+        return False
+    if len(paper) == 2:
+        return paper[0] == "need" and len(ring) - 3 > k
+    if len(paper) != 3 or paper[0] != "chords" or type(paper[2]) is not tuple:
+        return False
+    # Nothing within the ring is tied but what stands side by side, so all other pairs are those that are due.
+    pairs = [pair for pair in combinations(sorted(ring), 2) if pair not in web[1]]
+    if len(paper[2]) != len(pairs):
+        return False
+    return all(denies_by_words(with_ties(web, pair), k - 1, one) for pair, one in zip(pairs, paper[2]))

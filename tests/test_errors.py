@@ -3,9 +3,11 @@
 import unittest
 
 from fewfills import errors
-from fewfills.errors import FillError, NoOrder, NoPivot, NoPlace, NoNumber, NoText, NoWeb
+from fewfills.errors import FillError, NoOrder, NoPivot, NoPlace, NoNumber, NoText, NoWeb, TooMany
 from fewfills.game import fill, filled, struck_out
+from fewfills.least import least
 from fewfills.numbers import number_of, over
+from fewfills.trees import keeps, parents, waits
 from fewfills.webs import neighbours, web_of
 
 PLAIN = ["NoNumber", "NoWeb", "NoPlace", "NoOrder", "NoParting", "TooMany", "NoSheet", "NoRow", "NoWord"]
@@ -80,3 +82,12 @@ class Refused(unittest.TestCase):
         self.check(NoPlace, struck_out, web, [0, 1, 2], 3)
         self.check(NoOrder, fill, web, [0, 1])
         self.check(NoOrder, filled, web, [0, 1])
+
+    def test_each_refusal_of_trees_and_the_least(self):
+        web = (3, ((0, 1),))
+        self.check(NoOrder, parents, web, [0, 1])
+        self.check(NoOrder, waits, web, [0, 1], 2)
+        self.check(NoOrder, keeps, [1, None, None], [0, 1])
+        self.check(NoPlace, waits, web, [0, 1, 2], 3)
+        self.check(NoPlace, waits, web, [0, 1], 3)
+        self.check(TooMany, least, (8, ()))

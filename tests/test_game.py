@@ -6,53 +6,11 @@ from fewfills.errors import NoOrder, NoPlace
 from fewfills.game import fill, filled, struck_out
 from fewfills.webs import is_web
 from tests.helpers import (
-    all_pairs, great_webs_with_orders, nested_lists, odd_things, orders_of, webs_of, webs_with_orders,
+    RING, both_ways, great_webs_with_orders, nested_lists, odd_orders, odd_places, odd_things, orders_of, tied_by_ways,
+    ties_of, webs_of, webs_with_orders,
 )
 
-RING = (5, ((0, 1), (0, 4), (1, 2), (2, 3), (3, 4)))
 STAR = (5, ((0, 2), (1, 2), (2, 3), (2, 4)))
-
-
-def odd_places():
-    return odd_things() + nested_lists() + [-1, 5, 12, 10 ** 5000, (), (0,), [], [0]]
-
-
-def odd_orders():
-    """Things that are no order of five places."""
-    made = odd_things() + nested_lists() + [
-        0, 5, (), (0, 1, 2, 3, 4), "01234", [], [0, 1, 2, 3], [0, 1, 2, 3, 4, 5], [0, 1, 2, 3, 4, 4], [0, 1, 2, 3, 3],
-        [0, 1, 2, 3, 5], [-1, 1, 2, 3, 4], [0, True, 2, 3, 4], [False, 1, 2, 3, 4], [0, 1.0, 2, 3, 4],
-        [0, "1", 2, 3, 4], [0, None, 2, 3, 4], [0, (1,), 2, 3, 4], [0, [1], 2, 3, 4], [0, 1, 2, 3, 10 ** 5000],
-    ]
-    return made
-
-
-def both_ways(ties):
-    return {frozenset(tie) for tie in ties}
-
-
-def ties_of(sets):
-    return tuple(sorted(tuple(sorted(tie)) for tie in sets))
-
-
-def tied_by_ways(web, order):
-    """The pairs from one to the other of which a way leads through places struck ahead of both."""
-    when = {place: k for k, place in enumerate(order)}
-    ties = both_ways(web[1])
-    found = []
-    for a, b in all_pairs(web[0]):
-        bound = min(when[a], when[b])
-        reached, rim = {a}, [a]
-        while rim:
-            here = rim.pop()
-            for there in range(web[0]):
-                if there not in reached and frozenset((here, there)) in ties:
-                    reached.add(there)
-                    if when[there] < bound:
-                        rim.append(there)
-        if b in reached:
-            found.append((a, b))
-    return tuple(found)
 
 
 class StruckOut(unittest.TestCase):

@@ -3,11 +3,16 @@
 import unittest
 from copy import deepcopy
 
+from fewfills.chords import chords_of, is_bare, is_ring, without_fill
 from fewfills.game import fill, filled, struck_out
+from fewfills.least import least
 from fewfills.numbers import is_less, is_number, minus, number_of, over, plus, times
+from fewfills.papers import denies
+from fewfills.trees import keeps, parents, waits
 from fewfills.webs import is_order, is_web, neighbours, web_of
+from tests.helpers import RING, two_sides, with_ties
 
-RING = (5, ((0, 1), (0, 4), (1, 2), (2, 3), (3, 4)))
+SIDES = two_sides(3, 4)
 
 
 def calls():
@@ -18,8 +23,27 @@ def calls():
         (over, [(1, 2), (2, 3)]), (is_less, [(1, 2), (2, 3)]), (is_number, [[1, 2]]),
         (web_of, [5, [(4, 3), (0, 1), (1, 0)]]), (is_web, [[5, [(0, 1)]]]), (neighbours, [RING, 0]),
         (is_order, [RING, order]), (struck_out, [RING, [4, 2, 0, 1], 0]), (fill, [RING, order]),
-        (filled, [RING, order]),
+        (filled, [RING, order]), (parents, [RING, order]), (waits, [RING, order, 1]),
+        (keeps, [[1, 2, 3, 4, None], order]), (is_ring, [RING, [1, 0, 4, 3, 2]]), (is_bare, [RING, [1, 0, 4, 3, 2]]),
+        (chords_of, [with_ties(RING, (0, 2), (1, 3)), [1, 0, 4, 3, 2]]), (without_fill, [RING]),
+        (without_fill, [(5, RING[1][1:])]), (denies, [RING, 1, ("need", [1, 0, 4, 3, 2])]), (denies, [RING, 1, paper()]),
+        (denies, [SIDES, 2, least(SIDES)[2]]), (least, [RING]), (least, [SIDES]), (least, [(5, RING[1][1:])]),
     ]
+
+
+def paper():
+    """A paper in which papers lie, against 1 of the ring."""
+    needs = [[0, 2, 3, 4], [0, 1, 2, 3], [0, 1, 3, 4], [1, 2, 3, 4], [0, 1, 2, 4]]
+    return ("chords", [0, 1, 2, 3, 4], tuple([("need", ring) for ring in needs]))
+
+
+def lists_within(thing):
+    """All lists that a told thing holds, itself too."""
+    found = [thing] if isinstance(thing, list) else []
+    if isinstance(thing, (list, tuple)):
+        for inner in thing:
+            found += lists_within(inner)
+    return found
 
 
 class HandedIn(unittest.TestCase):
@@ -66,6 +90,56 @@ class Told(unittest.TestCase):
             told.clear()
             self.assertEqual(call(*arguments), wanted, call.__name__)
 
+    def test_lists_within_what_is_told_are_the_askers_own(self):
+        for call, arguments in calls():
+            wanted = deepcopy(call(*arguments))
+            for change in (list.clear, list.reverse, lambda told: told.append(0), lambda told: told.insert(0, "more")):
+                for told in lists_within(call(*arguments)):
+                    change(told)
+                self.assertEqual(call(*arguments), wanted, call.__name__)
+
+    def test_no_list_is_told_at_two_places(self):
+        for call, arguments in calls():
+            # Kept, so that no list goes and leaves its place in memory to another one.
+            handed_in, first, second = lists_within(arguments), call(*arguments), call(*arguments)
+            lists = handed_in + lists_within(first) + lists_within(second)
+            self.assertEqual(len({id(one) for one in lists}), len(lists), call.__name__)
+
+    def test_rings_within_told_papers_are_the_askers_own(self):
+        told = least(SIDES)
+        rings = lists_within(told[2])
+        self.assertGreater(len(rings), 3)
+        wanted = deepcopy(told)
+        rings[-1].clear()
+        self.assertEqual([len(ring) for ring in rings[:-1]], [4] * (len(rings) - 1))
+        self.assertEqual(least(SIDES), wanted)
+        self.assertIs(denies(SIDES, 2, told[2]), False)
+        self.assertIs(denies(SIDES, 2, wanted[2]), True)
+
+    def test_a_paper_changed_behind_a_call_is_asked_anew(self):
+        given = paper()
+        self.assertIs(denies(RING, 1, given), True)
+        given[2][3][1].reverse()
+        self.assertIs(denies(RING, 1, given), True)
+        given[2][3][1].pop()
+        self.assertIs(denies(RING, 1, given), False)
+        given[2][3][1].insert(0, 4)
+        self.assertIs(denies(RING, 1, given), False)
+        self.assertIs(denies(RING, 1, paper()), True)
+
+    def test_orders_and_parents_changed_behind_a_call(self):
+        order = [0, 1, 2, 3, 4]
+        tree, told = parents(RING, order), waits(RING, order, 2)
+        order.reverse()
+        self.assertEqual(tree, [1, 2, 3, 4, None])
+        self.assertEqual(told, [0, 1])
+        self.assertEqual(parents(RING, order), [None, 0, 1, 2, 3])
+        self.assertIs(keeps(tree, order), False)
+        tree.clear()
+        tree.extend([None] * 5)
+        self.assertIs(keeps(tree, order), True)
+        self.assertEqual(parents(RING, [0, 1, 2, 3, 4]), [1, 2, 3, 4, None])
+
     def test_an_empty_told_list_is_the_askers_own_too(self):
         bare = (2, ())
         neighbours(bare, 0).append(1)
@@ -74,6 +148,17 @@ class Told(unittest.TestCase):
         fill(bare, [0, 1]).append((0, 1))
         self.assertEqual(fill(bare, [0, 1]), [])
         self.assertEqual(fill(bare, [1, 0]), [])
+        waits(bare, [0, 1], 1).append(0)
+        self.assertEqual(waits(bare, [0, 1], 1), [])
+        chords_of(RING, [0, 1, 2, 3, 4]).append((0, 2))
+        self.assertEqual(chords_of(RING, [0, 1, 2, 3, 4]), [])
+        nothing = (0, ())
+        parents(nothing, []).append(None)
+        self.assertEqual(parents(nothing, []), [])
+        without_fill(nothing)[1].append(0)
+        self.assertEqual(without_fill(nothing), ("order", []))
+        least(nothing)[1].append(0)
+        self.assertEqual(least(nothing), (0, [], None))
 
     def test_lists_told_twice_are_two(self):
         self.assertIsNot(neighbours(RING, 0), neighbours(RING, 0))

@@ -4,9 +4,7 @@ import unittest
 
 from fewfills.errors import NoPlace, NoWeb
 from fewfills.webs import is_order, is_web, neighbours, web_of
-from tests.helpers import all_pairs, nested_lists, odd_things, orders_of, webs_of
-
-RING = (5, ((0, 1), (0, 4), (1, 2), (2, 3), (3, 4)))
+from tests.helpers import RING, all_pairs, nested_lists, odd_things, orders_of, webs_of
 
 
 def odd_ties():
