@@ -1,6 +1,6 @@
 """The game: places are struck out of a web, and what they leave behind becomes tied."""
 
-from fewfills.webs import check_order, check_place, neighbours, rising_once
+from fewfills.webs import check_order, check_place, check_places, neighbours, rising_once
 
 
 def pairs_among(places):
@@ -23,8 +23,7 @@ def new_pairs(web, left, v):
 
 def struck_out(web, left, v):
     check_place(web[0], v)
-    for place in left:
-        check_place(web[0], place)
+    check_places(web[0], left)
     others = [tie for tie in web[1] if v not in tie]
     return (web[0], rising_once(others + pairs_round(web, left, v)))
 

@@ -2,10 +2,17 @@
 
 from fewfills.errors import NoNumber
 
+NOUGHT = (0, 1)
+ONE = (1, 1)
+
 
 def is_whole(thing):
     # Python counts truths among its whole numbers; the program does not.
     return isinstance(thing, int) and not isinstance(thing, bool)
+
+
+def is_pair(thing):
+    return isinstance(thing, tuple) and len(thing) == 2
 
 
 def greatest_shared(a, b):
@@ -30,9 +37,7 @@ def number_of(top, bottom):
 
 
 def is_number(thing):
-    if not isinstance(thing, tuple) or len(thing) != 2:
-        return False
-    if not is_whole(thing[0]) or not is_whole(thing[1]):
+    if not is_pair(thing) or not is_whole(thing[0]) or not is_whole(thing[1]):
         return False
     return thing[1] >= 1 and greatest_shared(abs(thing[0]), thing[1]) == 1
 

@@ -1,7 +1,7 @@
 """Webs: tuples (n, ties) of how many places there are and which of them are tied."""
 
 from fewfills.errors import NoOrder, NoPlace, NoWeb
-from fewfills.numbers import is_whole
+from fewfills.numbers import is_pair, is_whole
 
 MOST_PLACES = 12
 
@@ -19,9 +19,14 @@ def check_place(n, thing):
         raise NoPlace("this is no place")
 
 
+def check_places(n, things):
+    for thing in things:
+        check_place(n, thing)
+
+
 def is_tie(n, thing):
     """Whether the thing is a tuple of two unlike places, in either order."""
-    if not isinstance(thing, tuple) or len(thing) != 2:
+    if not is_pair(thing):
         return False
     # Places are asked for first: things of other kinds may not even be compared.
     return is_place(n, thing[0]) and is_place(n, thing[1]) and thing[0] != thing[1]
@@ -47,9 +52,7 @@ def web_of(n, ties):
 
 
 def is_web(thing):
-    if not isinstance(thing, tuple) or len(thing) != 2:
-        return False
-    if not is_count(thing[0]) or not isinstance(thing[1], tuple):
+    if not is_pair(thing) or not is_count(thing[0]) or not isinstance(thing[1], tuple):
         return False
     return are_ties(thing[0], thing[1]) and thing[1] == rising_once(thing[1])
 

@@ -1,5 +1,6 @@
 """What several tests share: webs and orders to go through, things of other kinds, and plain ways to find answers."""
 
+from fractions import Fraction
 from itertools import combinations, permutations
 from random import Random
 
@@ -183,6 +184,22 @@ def game_of(web, order):
     return met, sorted(come)
 
 
+def parents_by_game(web, order):
+    met, _ = game_of(web, order)
+    return [min(met[place], key=order.index, default=None) for place in range(web[0])]
+
+
+def orders_keeping(source, tree, count):
+    """Orders that strike each place ahead of its parent, drawn place by place."""
+    for _ in range(count):
+        order, left = [], list(range(len(tree)))
+        while left:
+            free = [place for place in left if not any(tree[other] == place for other in left)]
+            order.append(source.choice(free))
+            left.remove(order[-1])
+        yield order
+
+
 def is_bare_by_words(web, ring):
     """Whether a list of places, each once, is a bare ring: just those side by side in it are tied."""
     ties = both_ways(web[1])
@@ -221,3 +238,76 @@ def denies_by_words(web, k, paper):
     if len(paper[2]) != len(pairs):
         return False
     return all(denies_by_words(with_ties(web, pair), k - 1, one) for pair, one in zip(pairs, paper[2]))
+
+
+def as_number(fraction):
+    return (fraction.numerator, fraction.denominator)
+
+
+def drawn_number(source, figures=1):
+    """A number other than nought, with tops and bottoms of at most so many figures."""
+    top = source.choice((-1, 1)) * source.randint(1, 10 ** figures - 1)
+    return as_number(Fraction(top, source.randint(1, 10 ** figures - 1)))
+
+
+def drawn_sheet(source, web, figures=1, empty=0.0):
+    """A sheet in the shape of the web: at each tie a number one way or both ways; some in the middle are nought."""
+    rows = [[] for _ in range(web[0])]
+    for v in range(web[0]):
+        if source.random() >= empty:
+            rows[v].append((v, drawn_number(source, figures)))
+    for a, b in web[1]:
+        for i, j in source.choice((((a, b),), ((b, a),), ((a, b), (b, a)), ((a, b), (b, a)))):
+            rows[i].append((j, drawn_number(source, figures)))
+    return (web[0], tuple(tuple(sorted(row)) for row in rows))
+
+
+def drawn_sheets_with_orders(each=20, figures=1, empty=0.0, seed=21):
+    """Sheets of 0 to 12 places with an order, always the same ones."""
+    source = Random(seed)
+    for web, order in drawn_webs_with_orders(each):
+        yield drawn_sheet(source, web, figures, empty), order
+
+
+def square_of(sheet):
+    """All numbers of the sheet, noughts too, as fractions."""
+    square = [[Fraction(0)] * sheet[0] for _ in range(sheet[0])]
+    for i, row in enumerate(sheet[1]):
+        for j, number in row:
+            square[i][j] = Fraction(*number)
+    return square
+
+
+def sheet_of_square(square):
+    rows = [tuple((j, as_number(one)) for j, one in enumerate(row) if one) for row in square]
+    return (len(square), tuple(rows))
+
+
+def shape_of(sheet):
+    """The sheet's web, by its square."""
+    square = square_of(sheet)
+    return (sheet[0], tuple((a, b) for a, b in all_pairs(sheet[0]) if square[a][b] or square[b][a]))
+
+
+def work_by_words(sheet, order):
+    """The work gone through with fractions, all numbers of each row; where a pivot is nought its place instead."""
+    square, work = square_of(sheet), []
+    for k, v in enumerate(order):
+        later, column = sorted(order[k + 1:]), []
+        if not square[v][v]:
+            return v
+        for i in later:
+            if square[i][v]:
+                factor = square[i][v] / square[v][v]
+                square[i] = [one - factor * other for one, other in zip(square[i], square[v])]
+                column.append((i, as_number(factor)))
+        row = tuple((j, as_number(square[v][j])) for j in later if square[v][j])
+        work.append((v, as_number(square[v][v]), row, tuple(column)))
+    return work
+
+
+def numbers_within(thing):
+    """The things at the ends of lists and tuples."""
+    if isinstance(thing, (list, tuple)):
+        return [end for inner in thing for end in numbers_within(inner)]
+    return [thing]

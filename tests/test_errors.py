@@ -3,10 +3,16 @@
 import unittest
 
 from fewfills import errors
-from fewfills.errors import FillError, NoOrder, NoPivot, NoPlace, NoNumber, NoText, NoWeb, TooMany
+from fewfills.errors import (
+    FillError, NoNumber, NoOrder, NoParting, NoPivot, NoPlace, NoSheet, NoText, NoWeb, TooMany,
+)
+from fewfills.fronts import fronts
 from fewfills.game import fill, filled, struck_out
 from fewfills.least import least
 from fewfills.numbers import number_of, over
+from fewfills.parting import may_come, pieces, shores
+from fewfills.sheets import number_at, sheet_of
+from fewfills.strike import struck
 from fewfills.trees import keeps, parents, waits
 from fewfills.webs import neighbours, web_of
 
@@ -91,3 +97,18 @@ class Refused(unittest.TestCase):
         self.check(NoPlace, waits, web, [0, 1, 2], 3)
         self.check(NoPlace, waits, web, [0, 1], 3)
         self.check(TooMany, least, (8, ()))
+
+    def test_each_refusal_of_partings_sheets_and_striking(self):
+        web, bare = (3, ((0, 1),)), (3, ((),) * 3)
+        for call in (pieces, shores, may_come):
+            self.check(NoParting, call, web, (0, 1))
+            self.check(NoPlace, call, web, [0, 0, 3])
+            self.check(NoParting, call, web, [0, 0])
+        self.check(NoSheet, sheet_of, 13, [])
+        self.check(NoSheet, sheet_of, 3, [[], []])
+        self.check(NoSheet, sheet_of, 3, [[], [(3, (1, 1))], []])
+        self.check(NoPlace, number_at, bare, 3, 0)
+        self.check(NoPlace, number_at, bare, 0, 3)
+        for call in (struck, fronts):
+            self.check(NoOrder, call, bare, [0, 1])
+            self.check(NoPivot, call, bare, [0, 1, 2])

@@ -97,9 +97,18 @@ def faults_of_top(tree):
                 yield "L2, L16: import"
 
 
+def faults_of_locals(tree):
+    drawn = [alias.asname or alias.name for node in tree.body if isinstance(node, ast.ImportFrom) for alias in node.names]
+    taken = drawn + [node.name for node in tree.body if isinstance(node, ast.ClassDef)]
+    for node in ast.walk(tree):
+        name = node.arg if isinstance(node, ast.arg) else node.id if isinstance(node, ast.Name) else None
+        if name in taken and not isinstance(getattr(node, "ctx", None), ast.Load):
+            yield "L15: called like an import or a class"
+
+
 def faults_of(text):
     tree = ast.parse(text)
-    found = list(faults_of_text(text)) + list(faults_of_top(tree))
+    found = list(faults_of_text(text)) + list(faults_of_top(tree)) + list(faults_of_locals(tree))
     for node in ast.walk(tree):
         # Operators have no line of their own.
         line = getattr(node, "lineno", "unknown")
@@ -141,6 +150,7 @@ class Language(unittest.TestCase):
             "x = {a for a in (1, 2)}", "x = y = 1", "def f(*a):\n    return a", "def f(a):\n    return eval(a)",
             "def f(a):\n    assert a", "def f(list):\n    return list", "def f(a):\n    a.sort()", "x = 'the type'",
             "def f(a, b):\n    return a is b", "def _f():\n    return _x", "def f(a):\n    return any(x for x in a)",
+            "from fewfills.webs import is_web\ndef f(is_web):\n    return 1", "class A:\n    pass\ndef f():\n    A = 1",
             "def f(a):\n" + "    a += 1\n" * 40, "x = '" + "a" * 120 + "'", "x = '\u00e4'",
         ):
             self.assertNotEqual(faults_of(ahead + code), [], code)

@@ -4,19 +4,39 @@ import unittest
 from copy import deepcopy
 
 from fewfills.chords import chords_of, is_bare, is_ring, without_fill
+from fewfills.fronts import fronts
 from fewfills.game import fill, filled, struck_out
 from fewfills.least import least
 from fewfills.numbers import is_less, is_number, minus, number_of, over, plus, times
 from fewfills.papers import denies
+from fewfills.parting import may_come, pieces, shores
+from fewfills.sheets import is_sheet, number_at, sheet_of, showing, web_of_sheet
+from fewfills.strike import put_back, solved, struck
 from fewfills.trees import keeps, parents, waits
 from fewfills.webs import is_order, is_web, neighbours, web_of
 from tests.helpers import RING, two_sides, with_ties
 
 SIDES = two_sides(3, 4)
+ONE = (1, 1)
+SHEET = (3, (((0, (2, 1)), (1, ONE)), ((0, (4, 1)), (1, (5, 1)), (2, (3, 1))), ((1, (-6, 1)), (2, ONE))))
 
 
 def calls():
     """Each function with arguments made anew."""
+    return calls_on_webs() + calls_on_sheets()
+
+
+def calls_on_sheets():
+    order = [1, 2, 0]
+    return [
+        (sheet_of, [3, [[(1, ONE), (0, (2, 1))], ((2, ONE),), []]]), (is_sheet, [[3, [[(0, ONE)], [], []]]]),
+        (number_at, [SHEET, 1, 2]), (web_of_sheet, [SHEET]), (showing, [RING]), (struck, [SHEET, order]),
+        (put_back, [3, struck(SHEET, order)]), (solved, [3, struck(SHEET, order), [ONE, (1, 2), (0, 1)]]),
+        (fronts, [SHEET, order]), (fronts, [showing(RING), [3, 0, 4, 2, 1]]),
+    ]
+
+
+def calls_on_webs():
     order = [3, 0, 4, 2, 1]
     return [
         (number_of, [6, -4]), (plus, [(1, 2), (1, 3)]), (minus, [(1, 2), (1, 3)]), (times, [(1, 2), (2, 3)]),
@@ -28,6 +48,7 @@ def calls():
         (chords_of, [with_ties(RING, (0, 2), (1, 3)), [1, 0, 4, 3, 2]]), (without_fill, [RING]),
         (without_fill, [(5, RING[1][1:])]), (denies, [RING, 1, ("need", [1, 0, 4, 3, 2])]), (denies, [RING, 1, paper()]),
         (denies, [SIDES, 2, least(SIDES)[2]]), (least, [RING]), (least, [SIDES]), (least, [(5, RING[1][1:])]),
+        (pieces, [RING, [3, 1]]), (shores, [RING, [3, 1]]), (may_come, [RING, [3, 1]]), (may_come, [RING, [4, 0, 2]]),
     ]
 
 
@@ -72,6 +93,31 @@ class HandedIn(unittest.TestCase):
         self.assertEqual(web_of(3, [(0, 1), (1, 2)]), web)
 
 
+    def test_rows_partings_and_right_sides_changed_behind_a_call(self):
+        rows = [[(1, ONE), (0, ONE)], []]
+        sheet = sheet_of(2, rows)
+        rows[0].clear()
+        rows[1].append((0, ONE))
+        rows.append([])
+        self.assertEqual(sheet, (2, (((0, ONE), (1, ONE)), ())))
+        some = [3, 1]
+        told = [call(RING, some) for call in (pieces, shores, may_come)]
+        some.clear()
+        self.assertEqual(told, [[[0, 4], [2]], [[1, 3], [1, 3]], [(0, 3), (1, 3), (1, 4)]])
+        order, right = [0, 1, 2], [(4, 1), (23, 1), (-9, 1)]
+        work, front = struck(SHEET, order), fronts(SHEET, order)
+        x = solved(3, work, right)
+        back = put_back(3, work)
+        wanted = deepcopy((work[1:], front, x, back))
+        order.reverse()
+        right.clear()
+        work.pop(0)
+        self.assertEqual((work, front, x, back), wanted)
+        self.assertEqual(x, [(1, 1), (2, 1), (3, 1)])
+        self.assertEqual(back, SHEET)
+        self.assertEqual(struck(SHEET, [0, 1, 2])[1:], work)
+
+
 class Told(unittest.TestCase):
     def test_the_same_asked_again_is_told_the_same(self):
         for (call, arguments), (again, same) in zip(calls(), calls()):
@@ -82,7 +128,7 @@ class Told(unittest.TestCase):
             told = call(*arguments)
             if not isinstance(told, list):
                 continue
-            wanted = list(told)
+            wanted = deepcopy(told)
             self.assertTrue(wanted, call.__name__)
             told[0] = "changed"
             told.append("more")
@@ -159,6 +205,16 @@ class Told(unittest.TestCase):
         self.assertEqual(without_fill(nothing), ("order", []))
         least(nothing)[1].append(0)
         self.assertEqual(least(nothing), (0, [], None))
+        for call in (pieces, shores, may_come):
+            call(nothing, []).append(0)
+            self.assertEqual(call(nothing, []), [])
+        shores(bare, [])[0].append(1)
+        self.assertEqual(shores(bare, []), [[], []])
+        for call in (struck, fronts):
+            call((0, ()), []).append(0)
+            self.assertEqual(call((0, ()), []), [])
+        solved(0, [], []).append(0)
+        self.assertEqual(solved(0, [], []), [])
 
     def test_lists_told_twice_are_two(self):
         self.assertIsNot(neighbours(RING, 0), neighbours(RING, 0))

@@ -7,17 +7,12 @@ from fewfills.errors import NoOrder, NoPlace
 from fewfills.game import fill, filled
 from fewfills.trees import keeps, parents, waits
 from tests.helpers import (
-    RING, drawn_webs_with_orders, game_of, great_webs_with_orders, nested_lists, odd_orders, odd_places, odd_things,
-    orders_of, reached_from, webs_of, webs_with_orders,
+    RING, drawn_webs_with_orders, great_webs_with_orders, nested_lists, odd_orders, odd_places, odd_things,
+    orders_keeping, orders_of, parents_by_game, reached_from, webs_of, webs_with_orders,
 )
 
 # A line 0 - 1 - 2 - 3 and a pair 4 - 5 apart from it.
 LINE = (6, ((0, 1), (1, 2), (2, 3), (4, 5)))
-
-
-def parents_by_game(web, order):
-    met, _ = game_of(web, order)
-    return [min(met[place], key=order.index, default=None) for place in range(web[0])]
 
 
 def waits_by_tree(tree, v):
@@ -39,17 +34,6 @@ def waits_by_ways(web, order, v):
 
 def stands_ahead(tree, order):
     return all(tree[place] is None or order.index(place) < order.index(tree[place]) for place in order)
-
-
-def orders_keeping(source, tree, count):
-    """Orders that strike each place ahead of its parent, drawn place by place."""
-    for _ in range(count):
-        order, left = [], list(range(len(tree)))
-        while left:
-            free = [place for place in left if not any(tree[other] == place for other in left)]
-            order.append(source.choice(free))
-            left.remove(order[-1])
-        yield order
 
 
 class Parents(unittest.TestCase):
