@@ -25,17 +25,24 @@ def step_of(rows, v, later):
     return (v, pivot, parts_at(rows[v], later), tuple(column))
 
 
-def struck(sheet, order):
-    # An order hangs on how many places there are, not on their numbers.
-    check_order((sheet[0], ()), order)
+def struck_with(sheet, order, known):
+    """The work of the sheet by the order; of some places the tuples are known, kept as a dict by places."""
     rows = [dict(row) for row in sheet[1]]
     work = []
     for k, v in enumerate(order):
-        step = step_of(rows, v, sorted(order[k + 1:]))
+        step = known[v] if v in known else step_of(rows, v, sorted(order[k + 1:]))
         for i, factor in step[3]:
-            add_times(rows[i], minus(NOUGHT, factor), step[2])
+            # Where the tuple is known nobody asks for the row.
+            if i not in known:
+                add_times(rows[i], minus(NOUGHT, factor), step[2])
         work.append(step)
     return work
+
+
+def struck(sheet, order):
+    # An order hangs on how many places there are, not on their numbers.
+    check_order((sheet[0], ()), order)
+    return struck_with(sheet, order, {})
 
 
 def put_back(n, work):

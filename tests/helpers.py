@@ -4,6 +4,7 @@ from fractions import Fraction
 from itertools import combinations, permutations
 from random import Random
 
+ONE, NOUGHT = (1, 1), (0, 1)
 RING = (5, ((0, 1), (0, 4), (1, 2), (2, 3), (3, 4)))
 
 
@@ -49,6 +50,44 @@ def odd_orders():
         [0, "1", 2, 3, 4], [0, None, 2, 3, 4], [0, (1,), 2, 3, 4], [0, [1], 2, 3, 4], [0, 1, 2, 3, 10 ** 5000],
     ]
     return made
+
+
+def odd_numbers():
+    """Things that are no number that may stand in a sheet."""
+    made = [
+        1, -1, 0, (0, 1), (0, 2), (2, 4), (3, 3), (1, 0), (0, 0), (1, -1), (-1, -2), (1,), (1, 1, 1), (), [1, 1], "1",
+        (True, 1), (1, True), (1.0, 1), (1, 1.0), ("1", 1), (1, "1"), (None, 1), (1, None), ((1, 1), 1), ([1], 1), 0.5,
+        (10 ** 5000, 10 ** 5000), (10 ** 5000, 10),
+    ]
+    return made + odd_things() + nested_lists()
+
+
+def odd_parts():
+    """Things that are no part of a row of three places."""
+    made = [
+        0, (), (0,), (0, ONE, ONE), (0, 1, 1), [0, ONE], [], ONE, ((0, ONE),), [(0, ONE)], (ONE, 0), {0: ONE},
+        (3, ONE), (-1, ONE), (12, ONE), (10 ** 5000, ONE),
+    ]
+    for thing in odd_things() + nested_lists():
+        made.extend([thing, (thing, ONE)])
+    return made + [(0, thing) for thing in odd_numbers()]
+
+
+def odd_numbers_written():
+    """Words that are no number as it is written."""
+    return [
+        "", "-", "/", "+5", "+0", "-0", "00", "05", "-05", "007", "5/", "/5", "-/5", "5/1", "-5/1", "0/1", "0/5", "5/0",
+        "5/00", "0/0", "2/4", "6/3", "-6/4", "5/5", "5/02", "05/2", "5/-2", "-5/-2", "5/+2", "+5/2", "--5", "5-", "5.0",
+        "1.5", "5e1", "1_0", "0x5", "0b1", "a", "five", "5a", "a5", "5/a", "5/2/3", "5//2", "5|2", "5=2", "(5,1)",
+        "None", "\t5", "5\t", "5,2", "5:", "1" + "0" * 60, "-1" + "0" * 60, "1/1" + "0" * 60, "1" * 61 + "/2",
+        "1" * 5000, "-" + "1" * 5000, "1/" + "3" * 5000, "0" * 61, "0" * 5000,
+    ]
+
+
+def odd_places_written(n):
+    """Words that are no place of n as it is written."""
+    return ["", "-0", "-1", "+0", "00", "01", "a", ".", "0.0", "1/1", "0/1", str(n), "12", "13", "100", "1" * 61,
+            "1" * 5000, "0" * 61, "0x0", "_0", "0_0", "\t0"]
 
 
 def all_pairs(n):

@@ -3,8 +3,10 @@
 import unittest
 
 from fewfills import errors
+from fewfills.changes import changed, touched
+from fewfills.desk import Desk
 from fewfills.errors import (
-    FillError, NoNumber, NoOrder, NoParting, NoPivot, NoPlace, NoSheet, NoText, NoWeb, TooMany,
+    FillError, NoNumber, NoOrder, NoParting, NoPivot, NoPlace, NoRow, NoSheet, NoText, NoWeb, NoWord, TooMany,
 )
 from fewfills.fronts import fronts
 from fewfills.game import fill, filled, struck_out
@@ -13,6 +15,7 @@ from fewfills.numbers import number_of, over
 from fewfills.parting import may_come, pieces, shores
 from fewfills.sheets import number_at, sheet_of
 from fewfills.strike import struck
+from fewfills.texts import read_rows, read_sheet
 from fewfills.trees import keeps, parents, waits
 from fewfills.webs import neighbours, web_of
 
@@ -112,3 +115,30 @@ class Refused(unittest.TestCase):
         for call in (struck, fronts):
             self.check(NoOrder, call, bare, [0, 1])
             self.check(NoPivot, call, bare, [0, 1, 2])
+
+    def test_each_refusal_of_changes_and_texts(self):
+        sheet, order = (2, (((0, (1, 1)),), ((1, (1, 1)),))), [0, 1]
+        work = struck(sheet, order)
+        self.check(NoPlace, touched, (2, ()), order, [(0, 2)])
+        self.check(NoOrder, touched, (2, ()), [0], [(0, 0)])
+        self.check(NoPlace, changed, sheet, [0], work, 2, None)
+        self.check(NoOrder, changed, sheet, [0], work, 1, None)
+        self.check(NoRow, changed, sheet, order, work, 1, None)
+        self.check(NoRow, changed, sheet, order, work, 1, ((0, (1, 1)),))
+        self.check(NoPivot, changed, sheet, order, work, 1, ())
+        for text in (None, "x", "0: 0=0", "1" * 5000, "0: 0=" + "1" * 5000, "0: " + "1" * 5000 + "=1"):
+            self.check(NoText, read_sheet, text)
+        for text in (None, "x", "| 00", "| " + "1" * 5000, "| 1/" + "1" * 5000, "1" * 5000 + "=1 | 1"):
+            self.check(NoText, read_rows, 3, text)
+
+    def test_each_refusal_of_a_desk(self):
+        desk = Desk("0: 0=1\n1:")
+        self.check(NoText, Desk, "1:")
+        self.check(NoText, Desk, None)
+        for row in (None, "", "x", "fill 1", "order 0 2", "waits " + "1" * 5000, "answer 1 " + "1" * 5000, "row 0 0=0"):
+            self.check(NoWord, desk.say, row)
+        self.check(NoOrder, desk.say, "order 0")
+        self.check(NoRow, desk.say, "row 0 1=1")
+        self.check(NoPivot, desk.say, "pivots")
+        self.check(NoPivot, desk.say, "answer 1 1")
+        self.check(TooMany, Desk("\n".join(f"{v}:" for v in range(8))).say, "least")

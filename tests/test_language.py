@@ -98,8 +98,10 @@ def faults_of_top(tree):
 
 
 def faults_of_locals(tree):
-    drawn = [alias.asname or alias.name for node in tree.body if isinstance(node, ast.ImportFrom) for alias in node.names]
-    taken = drawn + [node.name for node in tree.body if isinstance(node, ast.ClassDef)]
+    taken = [node.name for node in tree.body if isinstance(node, ast.ClassDef)]
+    for node in tree.body:
+        if isinstance(node, ast.ImportFrom):
+            taken += [alias.asname or alias.name for alias in node.names]
     for node in ast.walk(tree):
         name = node.arg if isinstance(node, ast.arg) else node.id if isinstance(node, ast.Name) else None
         if name in taken and not isinstance(getattr(node, "ctx", None), ast.Load):

@@ -3,7 +3,11 @@
 import unittest
 from copy import deepcopy
 
+from fewfills.answers import answer, holds, is_answer, is_mix, is_way
+from fewfills.changes import changed, touched
 from fewfills.chords import chords_of, is_bare, is_ring, without_fill
+from fewfills.desk import Desk
+from fewfills.errors import NoWord
 from fewfills.fronts import fronts
 from fewfills.game import fill, filled, struck_out
 from fewfills.least import least
@@ -12,6 +16,7 @@ from fewfills.papers import denies
 from fewfills.parting import may_come, pieces, shores
 from fewfills.sheets import is_sheet, number_at, sheet_of, showing, web_of_sheet
 from fewfills.strike import put_back, solved, struck
+from fewfills.texts import read_rows, read_sheet, show_number, show_rows, show_sheet
 from fewfills.trees import keeps, parents, waits
 from fewfills.webs import is_order, is_web, neighbours, web_of
 from tests.helpers import RING, two_sides, with_ties
@@ -23,7 +28,27 @@ SHEET = (3, (((0, (2, 1)), (1, ONE)), ((0, (4, 1)), (1, (5, 1)), (2, (3, 1))), (
 
 def calls():
     """Each function with arguments made anew."""
-    return calls_on_webs() + calls_on_sheets()
+    return calls_on_webs() + calls_on_sheets() + calls_on_rows()
+
+
+def rows():
+    """Two rows of three unknowns."""
+    return [(((0, ONE), (2, (1, 2))), (3, 1)), (((1, (2, 1)),), (0, 1))]
+
+
+def calls_on_rows():
+    two, four, nought = (2, 1), (4, 1), (0, 1)
+    order, text = [1, 2, 0], "0: 0=2 1=1\n1:"
+    only, none = [(((0, two),), ONE)], [((), nought), ((), two)]
+    return [
+        (answer, [3, rows()]), (answer, [1, only]), (answer, [1, none]), (is_answer, [rows(), [two, nought, two]]),
+        (is_mix, [1, none, [ONE, (1, 2)]]), (is_way, [rows(), [(-1, 1), nought, two]]),
+        (holds, [3, rows(), [2], 0, [ONE, nought]]), (touched, [RING, [3, 0, 4, 2, 1], [(0, 1), (2, 2)]]),
+        (changed, [SHEET, order, struck(SHEET, order), 1, ((0, four), (1, ONE))]),
+        (changed, [SHEET, order, struck(SHEET, order), 0, ((0, four), (1, ONE))]),
+        (show_number, [(-3, 4)]), (show_sheet, [SHEET]), (show_rows, [rows()]), (read_sheet, [text]),
+        (read_rows, [3, show_rows(rows())]),
+    ]
 
 
 def calls_on_sheets():
@@ -46,7 +71,8 @@ def calls_on_webs():
         (filled, [RING, order]), (parents, [RING, order]), (waits, [RING, order, 1]),
         (keeps, [[1, 2, 3, 4, None], order]), (is_ring, [RING, [1, 0, 4, 3, 2]]), (is_bare, [RING, [1, 0, 4, 3, 2]]),
         (chords_of, [with_ties(RING, (0, 2), (1, 3)), [1, 0, 4, 3, 2]]), (without_fill, [RING]),
-        (without_fill, [(5, RING[1][1:])]), (denies, [RING, 1, ("need", [1, 0, 4, 3, 2])]), (denies, [RING, 1, paper()]),
+        (without_fill, [(5, RING[1][1:])]), (denies, [RING, 1, ("need", [1, 0, 4, 3, 2])]),
+        (denies, [RING, 1, paper()]),
         (denies, [SIDES, 2, least(SIDES)[2]]), (least, [RING]), (least, [SIDES]), (least, [(5, RING[1][1:])]),
         (pieces, [RING, [3, 1]]), (shores, [RING, [3, 1]]), (may_come, [RING, [3, 1]]), (may_come, [RING, [4, 0, 2]]),
     ]
@@ -116,6 +142,51 @@ class HandedIn(unittest.TestCase):
         self.assertEqual(x, [(1, 1), (2, 1), (3, 1)])
         self.assertEqual(back, SHEET)
         self.assertEqual(struck(SHEET, [0, 1, 2])[1:], work)
+
+
+    def test_rows_works_and_mixes_changed_behind_a_call(self):
+        given = rows()
+        told, text = answer(3, given), show_rows(given)
+        wanted = deepcopy(told)
+        given.pop()
+        self.assertEqual(told, wanted)
+        self.assertEqual(text, "0=1 2=1/2 | 3\n1=2 | 0")
+        self.assertEqual(answer(3, rows()), wanted)
+        order = [0, 1, 2]
+        work, pairs = struck(SHEET, order), [(0, 1)]
+        told, marked = changed(SHEET, order, work, 2, ((2, ONE),)), touched(RING, [0, 1, 2, 3, 4], pairs)
+        wanted = deepcopy(told)
+        order.reverse()
+        work.clear()
+        pairs.clear()
+        self.assertEqual(told, wanted)
+        self.assertEqual(marked, [0, 1, 2, 3, 4])
+        told[1].pop()
+        self.assertEqual(changed(SHEET, [0, 1, 2], struck(SHEET, [0, 1, 2]), 2, ((2, ONE),)), wanted)
+
+    def test_a_work_handed_in_is_not_the_one_that_is_told(self):
+        order = [0, 1, 2]
+        work = struck(SHEET, order)
+        told = changed(SHEET, order, work, 2, SHEET[1][2])
+        self.assertEqual(told, (SHEET, work, []))
+        told[1].clear()
+        self.assertEqual(work, struck(SHEET, order))
+
+
+class Desks(unittest.TestCase):
+    def test_keep_nothing_of_one_another(self):
+        text = show_sheet(SHEET)
+        first, second = Desk(text), Desk(text)
+        first.say("order 2 1 0")
+        first.say("row 0")
+        self.assertEqual([second.say("show"), second.say("tree")], [text, "1 2 ."])
+        self.assertEqual(Desk(text).say("pivots"), second.say("pivots"))
+
+    def test_a_refused_row_changes_nothing(self):
+        desk = Desk(show_sheet(SHEET))
+        for row in ("order 2 1 x", "row 0 0=3 x", "", None):
+            self.assertRaises(NoWord, desk.say, row)
+        self.assertEqual([desk.say("show"), desk.say("tree")], [show_sheet(SHEET), "1 2 ."])
 
 
 class Told(unittest.TestCase):
@@ -213,6 +284,13 @@ class Told(unittest.TestCase):
         for call in (struck, fronts):
             call((0, ()), []).append(0)
             self.assertEqual(call((0, ()), []), [])
+        read_rows(3, "").append(0)
+        self.assertEqual(read_rows(3, ""), [])
+        touched(RING, [0, 1, 2, 3, 4], []).append(0)
+        self.assertEqual(touched(RING, [0, 1, 2, 3, 4], []), [])
+        for told in answer(0, [])[1:]:
+            told.append(0)
+        self.assertEqual(answer(0, []), ("one", [], []))
         solved(0, [], []).append(0)
         self.assertEqual(solved(0, [], []), [])
 

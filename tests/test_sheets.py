@@ -7,32 +7,11 @@ from fewfills.errors import NoPlace, NoSheet
 from fewfills.sheets import is_sheet, number_at, sheet_of, showing, web_of_sheet
 from tests.helpers import (
     RING, Stranger, all_pairs, drawn_sheets_with_orders, drawn_webs_with_orders, nested_lists, numbers_within,
-    odd_places, odd_things, sheet_of_square, shape_of, shuffled, square_of, webs_of,
+    odd_parts, odd_places, odd_things, sheet_of_square, shape_of, shuffled, square_of, webs_of,
 )
 
 ONE, HALF = (1, 1), (-1, 2)
 SHEET = (3, (((0, ONE), (2, HALF)), (), ((0, (5, 3)), (1, (2, 1)), (2, ONE))))
-
-
-def odd_numbers():
-    """Things that are no number that may stand in a sheet."""
-    made = [
-        1, -1, 0, (0, 1), (0, 2), (2, 4), (3, 3), (1, 0), (0, 0), (1, -1), (-1, -2), (1,), (1, 1, 1), (), [1, 1], "1",
-        (True, 1), (1, True), (1.0, 1), (1, 1.0), ("1", 1), (1, "1"), (None, 1), (1, None), ((1, 1), 1), ([1], 1), 0.5,
-        (10 ** 5000, 10 ** 5000), (10 ** 5000, 10),
-    ]
-    return made + odd_things() + nested_lists()
-
-
-def odd_parts():
-    """Things that are no part of a row of three places."""
-    made = [
-        0, (), (0,), (0, ONE, ONE), (0, 1, 1), [0, ONE], [], ONE, ((0, ONE),), [(0, ONE)], (ONE, 0), {0: ONE},
-        (3, ONE), (-1, ONE), (12, ONE), (10 ** 5000, ONE),
-    ]
-    for thing in odd_things() + nested_lists():
-        made.extend([thing, (thing, ONE)])
-    return made + [(0, thing) for thing in odd_numbers()]
 
 
 def odd_counts():
